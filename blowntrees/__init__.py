@@ -1,0 +1,1 @@
+"""Blowntrees: trees of spheres with weights."""
