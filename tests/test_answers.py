@@ -3,7 +3,7 @@
 import copy
 import unittest
 
-from blowntrees import listings, texts, trees
+from blowntrees import blowing, chains, inverses, listings, tables, texts, trees
 from blowntrees.errors import TreeError
 from samples import EMPTY, FEW, row_tree, star, twigs
 
@@ -29,7 +29,38 @@ def calls_of_trees():
             yield trees.path, (tree, place, many - 1 - place)
 
 
-ALL_CALLS = [calls_of_trees]
+def calls_of_tables():
+    for tree in SOME:
+        many = len(tree[0])
+        for act in (tables.table, tables.determinant, tables.signs, tables.is_below, tables.not_below):
+            yield act, (tree,)
+        cycle = tuple((-3) ** place for place in range(many))
+        yield tables.row_of, (tree, cycle)
+        yield tables.product, (tree, cycle, cycle[::-1])
+        yield inverses.inverse, (tree,)
+        yield inverses.left_determinant, (tree, tuple(range(1, many, 2)) * 2)
+        for place in range(many):
+            yield tables.folds, (tree, place)
+
+
+def calls_of_chains():
+    for chain in ((2,), (60,), (61,), (2, 3, 4), (2,) * 16, (3,) * 16, (10 ** 30, 2)):
+        for act in (chains.chain_tree, chains.chain_number, chains.other_side, chains.chain_loops):
+            yield act, (chain,)
+        yield chains.chain_of, (chains.chain_number(chain),)
+
+
+def calls_of_blowing():
+    for tree in SOME:
+        yield blowing.loose_places, (tree,)
+        for place in range(len(tree[0])):
+            for act in (blowing.blown_at, blowing.blown_down, blowing.nought_out):
+                yield act, (tree, place)
+        for tie in tree[1]:
+            yield blowing.blown_on, (tree, tie)
+
+
+ALL_CALLS = [calls_of_trees, calls_of_tables, calls_of_chains, calls_of_blowing]
 
 
 def is_plain(value):

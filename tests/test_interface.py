@@ -9,6 +9,13 @@ INTERFACE = {
               "joints(tree)", "path(tree, i, j)"],
     "listings": ["listed(tree, listing)", "least_listing(tree)", "least_form(tree)"],
     "texts": ["written(tree)", "read_tree(text)"],
+    "tables": ["table(tree)", "determinant(tree)", "signs(tree)", "is_below(tree)", "folds(tree, root)",
+               "row_of(tree, cycle)", "product(tree, one, other)", "not_below(tree)"],
+    "inverses": ["inverse(tree)", "left_determinant(tree, places)"],
+    "chains": ["chain_tree(chain)", "chain_number(chain)", "chain_of(number)", "other_side(chain)",
+               "chain_loops(chain)"],
+    "blowing": ["blown_at(tree, place)", "blown_on(tree, tie)", "blown_down(tree, place)",
+                "nought_out(tree, place)", "loose_places(tree)"],
 }
 
 
