@@ -1,22 +1,14 @@
 """The inverse of the table of a tree."""
 
-from blowntrees.errors import Nought
-from blowntrees.lefts import left_product
+from blowntrees.checks import checked_determinant
+from blowntrees.lefts import left_product, left_table
 from blowntrees.ratios import ratio
-from blowntrees.trees import path
 
 
 def inverse(tree):
     """Return the matrix of ratios that the table times it is the unit matrix."""
-    whole = left_product(tree, ())
-    if whole == 0:
-        raise Nought("the determinant is 0")
-    many = len(tree[0])
-    rows = []
-    for i in range(many):
-        lefts = [left_product(tree, path(tree, i, j)) for j in range(many)]
-        rows.append(tuple([ratio(-left, whole) for left in lefts]))
-    return tuple(rows)
+    whole = checked_determinant(tree)
+    return tuple([tuple([ratio(-left, whole) for left in row]) for row in left_table(tree)])
 
 
 def left_determinant(tree, places):

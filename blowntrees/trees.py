@@ -36,13 +36,14 @@ def _has_form(value):
     return len(value[0]) <= MOST_PLACES
 
 
-def _is_integer(value):
+def is_whole(value):
+    """Tell whether a value is an integer."""
     # For Python True and False are integers, for this package they are not.
     return isinstance(value, int) and not isinstance(value, bool)
 
 
 def _is_weight(value):
-    return _is_integer(value) and -MOST_WEIGHT <= value <= MOST_WEIGHT
+    return is_whole(value) and -MOST_WEIGHT <= value <= MOST_WEIGHT
 
 
 def _is_pair(value, many):
@@ -50,7 +51,7 @@ def _is_pair(value, many):
     if not isinstance(value, tuple) or len(value) != 2:
         return False
     i, j = value
-    return _is_integer(i) and _is_integer(j) and 0 <= i < j < many
+    return is_whole(i) and is_whole(j) and 0 <= i < j < many
 
 
 def _hanging_breach(ties, many):

@@ -3,9 +3,10 @@
 import copy
 import unittest
 
-from blowntrees import blowing, chains, inverses, listings, tables, texts, trees
+from blowntrees import blowing, chains, heights, inverses, linkings, listings, loops, sames, tables, texts, trees
 from blowntrees.errors import TreeError
-from samples import EMPTY, FEW, row_tree, star, twigs
+from belows import BASES, LESS_LONG, LONG, NONE_NEAR, NOT_BELOW
+from samples import E8, EMPTY, FEW, row_tree, star, twigs
 
 SOME = FEW + [twigs((-60,) * 16), star((60,) * 16), row_tree((-7,) * 16)]
 VALUES = [None, [], [[1], [2]], ([1, 2], [(0, 1)]), ((1, 2), [[0, 1]]), {"a": [1]}, (((1,), [2]), ()),
@@ -60,7 +61,51 @@ def calls_of_blowing():
             yield blowing.blown_on, (tree, tie)
 
 
-ALL_CALLS = [calls_of_trees, calls_of_tables, calls_of_chains, calls_of_blowing]
+MOVES = [(), [], None, [("at", 0)], (["at", 0],), (("at", 0), ("list", [1, 0])), (("new",),), (("down", 0), {"a": [1]}),
+         (("at", 0), ("at", 0), ("on", 0, 1)), (("list", (1, 0)),), "at"]
+
+
+def calls_of_sames():
+    for tree in SOME:
+        yield sames.least_tree, (tree,)
+        for moves in MOVES:
+            yield sames.moved, (tree, moves)
+        for other in (EMPTY, E8, tree):
+            yield sames.are_same, (tree, other)
+            yield sames.moves_between, (tree, other)
+
+
+def calls_of_loops():
+    for tree in SOME:
+        row = tuple((-7) ** place for place in range(len(tree[0])))
+        for act in (loops.all_loops, loops.loop_sizes, linkings.linking_row):
+            yield act, (tree,)
+        for act in (loops.loop_of, loops.loop_order):
+            yield act, (tree, row)
+        yield linkings.linking, (tree, row, row[::-1])
+        yield linkings.blown_row, (tree, ("list", tuple(range(len(row)))[::-1]), row)
+        for place in range(len(row)):
+            yield linkings.blown_row, (tree, ("at", place), row)
+        for i, j in tree[1]:
+            yield linkings.blown_row, (tree, ("on", i, j), row)
+
+
+def calls_below_zero():
+    for tree in FEW[::2] + BASES + NONE_NEAR + NOT_BELOW + [LONG, LESS_LONG]:
+        many = len(tree[0])
+        k = tuple(weight + 2 * (-3) ** place for place, weight in enumerate(tree[0]))
+        x = tuple((-1) ** place * place for place in range(many))
+        for act in (heights.canonical_row, heights.standing):
+            yield act, (tree,)
+        for act in (heights.is_marked, heights.square):
+            yield act, (tree, k)
+        yield heights.is_marked, (tree, x)
+        yield heights.height, (tree, k, x)
+        yield heights.carried, (tree, k, x)
+
+
+ALL_CALLS = [calls_of_trees, calls_of_tables, calls_of_chains, calls_of_blowing, calls_of_sames, calls_of_loops,
+             calls_below_zero]
 
 
 def is_plain(value):

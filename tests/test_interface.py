@@ -16,6 +16,11 @@ INTERFACE = {
                "chain_loops(chain)"],
     "blowing": ["blown_at(tree, place)", "blown_on(tree, tie)", "blown_down(tree, place)",
                 "nought_out(tree, place)", "loose_places(tree)"],
+    "sames": ["least_tree(tree)", "are_same(tree, other)", "moved(tree, moves)", "moves_between(tree, other)"],
+    "loops": ["loop_of(tree, row)", "all_loops(tree)", "loop_sizes(tree)", "loop_order(tree, row)"],
+    "linkings": ["linking(tree, one, other)", "linking_row(tree)", "blown_row(tree, move, row)"],
+    "heights": ["canonical_row(tree)", "is_marked(tree, row)", "square(tree, row)", "standing(tree)",
+                "height(tree, k, x)", "carried(tree, k, x)"],
 }
 
 

@@ -25,7 +25,8 @@ BUILTINS = {
 }
 METHODS = {
     "append", "clear", "copy", "count", "endswith", "extend", "find", "get", "index", "insert", "items", "join",
-    "keys", "pop", "partition", "remove", "replace", "reverse", "rfind", "split", "startswith", "strip", "values",
+    "keys", "pop", "partition", "remove", "replace", "reverse", "rfind", "setdefault", "split", "startswith", "strip",
+    "values",
 }
 BARRED = {
     "mro", "elements", "open", "input", "law", "version_info", "with_traceback", "add_note", "register",
@@ -43,6 +44,13 @@ def source_files():
 def source(name):
     with open(os.path.join(PACKAGE, name), encoding="utf-8") as file:
         return file.read()
+
+
+def own_methods():
+    """Return the names of all methods of the package but `__init__`."""
+    kinds = [part for name in source_files() for part in ast.parse(source(name)).body if isinstance(part, ast.ClassDef)]
+    names = [part.name for kind in kinds for part in kind.body if isinstance(part, ast.FunctionDef)]
+    return {name for name in names if name != "__init__"}
 
 
 def bound_names(node):
@@ -143,6 +151,23 @@ class Names(unittest.TestCase):
                     self.assertNotIsInstance(part.ctx, ast.Load, (name, part.lineno))
 
 
+class Classes(unittest.TestCase):
+    def test_names_of_methods_and_attributes(self):
+        methods = own_methods()
+        attributes = set()
+        for name in source_files():
+            for part in ast.walk(ast.parse(source(name))):
+                if isinstance(part, ast.Attribute) and not isinstance(part.ctx, ast.Load):
+                    self.assertEqual(getattr(part.value, "id", None), "self", (name, part.lineno))
+                    attributes.add(part.attr)
+        self.assertFalse(methods & attributes)
+        for kind in (str, int, list, dict, set, bytes, tuple):
+            self.assertFalse((methods | attributes) & set(dir(kind)), kind)
+        for name in methods | attributes:
+            self.assertNotIn(name, BARRED)
+            self.assertNotIn(name, vars(builtins))
+
+
 class Code(unittest.TestCase):
     def parts(self):
         for name in source_files():
@@ -173,11 +198,12 @@ class Code(unittest.TestCase):
                     self.assertNotIn("%", part.value, name)
 
     def test_calls(self):
+        methods = METHODS | own_methods()
         for where, part in self.parts():
             if not isinstance(part, ast.Call):
                 continue
             if isinstance(part.func, ast.Attribute):
-                self.assertIn(part.func.attr, METHODS, where)
+                self.assertIn(part.func.attr, methods, where)
                 self.assertEqual(part.keywords, [], where)
             else:
                 self.assertIsInstance(part.func, ast.Name, where)
