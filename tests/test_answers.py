@@ -3,9 +3,10 @@
 import copy
 import unittest
 
-from blowntrees import blowing, chains, heights, inverses, linkings, listings, loops, sames, tables, texts, trees
+from blowntrees import (blowing, chains, classes, cycles, heights, inverses, linkings, listings, loops, nears, roots,
+                        sames, tables, texts, trees)
 from blowntrees.errors import TreeError
-from belows import BASES, LESS_LONG, LONG, NONE_NEAR, NOT_BELOW
+from belows import BASES, LESS_LONG, LONG, NONE_NEAR, NOT_BELOW, SEVEN
 from samples import E8, EMPTY, FEW, row_tree, star, twigs
 
 SOME = FEW + [twigs((-60,) * 16), star((60,) * 16), row_tree((-7,) * 16)]
@@ -95,17 +96,33 @@ def calls_below_zero():
         many = len(tree[0])
         k = tuple(weight + 2 * (-3) ** place for place, weight in enumerate(tree[0]))
         x = tuple((-1) ** place * place for place in range(many))
-        for act in (heights.canonical_row, heights.standing):
+        for act in (heights.canonical_row, heights.standing, classes.all_classes, cycles.least_cycle,
+                    cycles.is_rational, cycles.multiplicity, nears.near_places):
             yield act, (tree,)
-        for act in (heights.is_marked, heights.square):
+        for act in (heights.is_marked, heights.square, classes.class_of, classes.level, classes.lowest,
+                    classes.lowest_rows, roots.root_by_rows):
             yield act, (tree, k)
         yield heights.is_marked, (tree, x)
         yield heights.height, (tree, k, x)
         yield heights.carried, (tree, k, x)
+        for act in (cycles.above, cycles.steps_above):
+            yield act, (tree, x)
+        for places in ((), (0, 1), (1, 0), (0,) * 5001, (None,)):
+            yield cycles.step_values, (tree, x, places)
+        for place in range(many):
+            yield nears.near_row, (tree, place, 5)
+            yield nears.near_root, (tree, place)
+
+
+def calls_of_roots():
+    for row in ((0,), (1, 0, 1), (0, 1, 0), (5, -2, 7, -3, 7, 7, -2) * 9, tuple(range(500))):
+        yield roots.root_of_row, (row,)
+        yield roots.rank_left, (roots.root_of_row(row),)
+    yield cycles.step_values, (SEVEN, (1, 0, 0, 0), cycles.steps_above(SEVEN, (1, 0, 0, 0)))
 
 
 ALL_CALLS = [calls_of_trees, calls_of_tables, calls_of_chains, calls_of_blowing, calls_of_sames, calls_of_loops,
-             calls_below_zero]
+             calls_below_zero, calls_of_roots]
 
 
 def is_plain(value):

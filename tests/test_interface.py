@@ -21,6 +21,12 @@ INTERFACE = {
     "linkings": ["linking(tree, one, other)", "linking_row(tree)", "blown_row(tree, move, row)"],
     "heights": ["canonical_row(tree)", "is_marked(tree, row)", "square(tree, row)", "standing(tree)",
                 "height(tree, k, x)", "carried(tree, k, x)"],
+    "classes": ["class_of(tree, k)", "all_classes(tree)", "level(tree, k)", "lowest(tree, k)",
+                "lowest_rows(tree, k)"],
+    "cycles": ["above(tree, x)", "steps_above(tree, x)", "step_values(tree, x, places)", "least_cycle(tree)",
+               "is_rational(tree)", "multiplicity(tree)"],
+    "nears": ["near_places(tree)", "near_row(tree, place, count)", "near_root(tree, place)"],
+    "roots": ["root_by_rows(tree, k)", "rank_left(root)", "root_of_row(heights)"],
 }
 
 
