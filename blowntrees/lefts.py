@@ -30,6 +30,14 @@ def _folded(tree, root, gone):
     return (whole, bare)
 
 
+def folded_in(tree, root):
+    """Return the list of the determinants of what lies at places and behind them.
+
+    Behind is what is farther from the root.
+    """
+    return _folded(tree, root, ())[0]
+
+
 def left_table(tree):
     """Return the matrix of what is left without the paths between places."""
     return [_left_row(tree, root) for root in range(len(tree[0]))]

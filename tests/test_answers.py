@@ -3,11 +3,13 @@
 import copy
 import unittest
 
-from blowntrees import (blowing, chains, classes, cycles, heights, inverses, linkings, listings, loops, nears, roots,
-                        sames, tables, texts, trees)
+from blowntrees import (blowing, branches, chains, classes, cycles, heights, inverses, linkings, listings, loops, lots,
+                        nears, roots, sames, splits, stars, tables, texts, trees)
 from blowntrees.errors import TreeError
 from belows import BASES, LESS_LONG, LONG, NONE_NEAR, NOT_BELOW, SEVEN
 from samples import E8, EMPTY, FEW, row_tree, star, twigs
+from test_branches import JUST, LITTLE, OVER, ROUGH
+from test_stars import LOW, NOT_APART, STARS
 
 SOME = FEW + [twigs((-60,) * 16), star((60,) * 16), row_tree((-7,) * 16)]
 VALUES = [None, [], [[1], [2]], ([1, 2], [(0, 1)]), ((1, 2), [[0, 1]]), {"a": [1]}, (((1,), [2]), ()),
@@ -121,8 +123,49 @@ def calls_of_roots():
     yield cycles.step_values, (SEVEN, (1, 0, 0, 0), cycles.steps_above(SEVEN, (1, 0, 0, 0)))
 
 
+def calls_of_stars():
+    for told in STARS[:20] + LOW[:20] + [(-1, ((2, 1), (3, 1), (18, 17))), (0, ((61, 1),) * 3), (0, ((17, 16),) * 3)]:
+        yield stars.star_tree, (told,)
+        yield stars.star_sum, (told,)
+        for count in (1, 2, 30):
+            yield stars.star_row, (told, count)
+    for tree in SOME:
+        yield stars.star_of, (tree,)
+    for value in NOT_APART + [(2, 3, 5), (5, 2, 3), (2, 3, 5, 7, 11, 13), (10 ** 30, 3, 7)]:
+        yield stars.sphere_star, (value,)
+    for numbers in ((2, 3, 5), (7, 3, 2), (2, 3, 4), (0, 1, -2), (3, 59, 113), (10 ** 30, 3, 7)):
+        yield stars.corner_sum, numbers
+
+
+def calls_of_lots():
+    for tree in SOME + [star((0,) * 10)]:
+        yield lots.right_lots, (tree,)
+        yield lots.lot_numbers, (tree,)
+        yield lots.lot_number, (tree, tuple(range(0, len(tree[0]), 2)))
+        for place in range(len(tree[0])):
+            yield splits.side_numbers, (tree, place)
+        for tie in tree[1]:
+            yield splits.cut_at, (tree, tie)
+        if tree[0]:
+            yield splits.tied, (tree, 0, ((-2,), ()), 0)
+            yield splits.tied, (E8, 7, tree, len(tree[0]) - 1)
+    for row in ((0,), (0, 1, 0), (0, 1, 0, 1, 0), (5, -2, 7, -3, 7, 7, -2) * 9, tuple(range(500))):
+        yield lots.middle_height, (roots.root_of_row(row),)
+
+
+def calls_of_branches():
+    for tree in LITTLE[:20] + JUST[:1] + OVER[:1] + ROUGH:
+        yield branches.is_smooth, (tree,)
+        for place in range(max(1, len(tree[0]))):
+            for act in (branches.branch_row, branches.gaps, branches.turn_point):
+                yield act, (tree, place)
+            for act in (branches.values, branches.value_row):
+                yield act, (tree, place, 40)
+            yield branches.meeting, (tree, place, 0)
+
+
 ALL_CALLS = [calls_of_trees, calls_of_tables, calls_of_chains, calls_of_blowing, calls_of_sames, calls_of_loops,
-             calls_below_zero, calls_of_roots]
+             calls_below_zero, calls_of_roots, calls_of_stars, calls_of_lots, calls_of_branches]
 
 
 def is_plain(value):

@@ -27,6 +27,12 @@ INTERFACE = {
                "is_rational(tree)", "multiplicity(tree)"],
     "nears": ["near_places(tree)", "near_row(tree, place, count)", "near_root(tree, place)"],
     "roots": ["root_by_rows(tree, k)", "rank_left(root)", "root_of_row(heights)"],
+    "stars": ["star_tree(star)", "star_of(tree)", "star_sum(star)", "star_row(star, count)", "sphere_star(numbers)",
+              "corner_sum(p, q, r)"],
+    "lots": ["right_lots(tree)", "lot_number(tree, lot)", "lot_numbers(tree)", "middle_height(root)"],
+    "branches": ["is_smooth(tree)", "branch_row(tree, place)", "values(tree, place, most)", "gaps(tree, place)",
+                 "turn_point(tree, place)", "value_row(tree, place, count)", "meeting(tree, u, v)"],
+    "splits": ["cut_at(tree, tie)", "tied(one, i, other, j)", "side_numbers(tree, place)"],
 }
 
 
