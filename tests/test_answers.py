@@ -3,12 +3,13 @@
 import copy
 import unittest
 
-from blowntrees import (blowing, branches, chains, classes, cycles, heights, inverses, linkings, listings, loops, lots,
-                        nears, roots, sames, splits, stars, tables, texts, trees)
+from blowntrees import (blowing, branches, chains, classes, cycles, heights, inverses, linkings, listings, lists, loops,
+                        lots, nears, points, roots, sames, splits, stars, stills, sums, tables, texts, trees)
 from blowntrees.errors import TreeError
 from belows import BASES, LESS_LONG, LONG, NONE_NEAR, NOT_BELOW, SEVEN
 from samples import E8, EMPTY, FEW, row_tree, star, twigs
 from test_branches import JUST, LITTLE, OVER, ROUGH
+from test_interface import INTERFACE
 from test_stars import LOW, NOT_APART, STARS
 
 SOME = FEW + [twigs((-60,) * 16), star((60,) * 16), row_tree((-7,) * 16)]
@@ -164,8 +165,47 @@ def calls_of_branches():
             yield branches.meeting, (tree, place, 0)
 
 
+def calls_of_sums():
+    for number in ((2, 1), (7, 3), (400, 399), (401, 2), (5000, 1), (5001, 1), (10 ** 40, 7)):
+        yield sums.fraction_sum, (number,)
+        yield sums.chain_levels, (number,)
+
+
+def calls_of_stills():
+    for tree in FEW[::3] + BASES[:8] + LITTLE[:10] + NOT_BELOW + [row_tree((-60, -60)), E8]:
+        many = len(tree[0])
+        for x in ((0,) * many, tuple(range(many)), (-(10 ** 40),) * many, (60,) * many):
+            for act in (stills.is_still, stills.loss, stills.shares, stills.point_row):
+                yield act, (tree, x)
+            for place in range(many):
+                yield stills.pulled_up, (tree, ("at", place), x)
+            for i, j in tree[1]:
+                yield stills.pulled_up, (tree, ("on", i, j), x)
+            yield stills.pulled_up, (tree, ("list", tuple(range(many))[::-1]), x)
+        for most in (0, 1, 5, 60):
+            yield stills.still_cycles, (tree, most)
+
+
+def calls_of_lists():
+    for n in range(10):
+        yield lists.shapes, (n,)
+    for n, low, high in ((0, -60, 60), (1, -60, 60), (2, -60, 60), (2, -9, 1), (4, -3, -1), (6, -2, -1), (6, -3, -1)):
+        yield lists.trees_between, (n, low, high)
+        yield lists.unimodular_trees, (n, low, high)
+        yield lists.rational_trees, (n, min(low, -2))
+
+
+def calls_of_points():
+    for tree in LITTLE[:20] + JUST[:1] + ROUGH:
+        for place in range(max(1, len(tree[0]))):
+            yield points.points_of, (tree, place)
+    for value in VALUES + [(1,), (2, 1, 1), (4, 2, 1, 1), (3, 1), (1, 2), [1], (True,), (1,) * 16, (1,) * 17, [[1]], ([1],)]:
+        yield points.tree_of_points, (value,)
+
+
 ALL_CALLS = [calls_of_trees, calls_of_tables, calls_of_chains, calls_of_blowing, calls_of_sames, calls_of_loops,
-             calls_below_zero, calls_of_roots, calls_of_stars, calls_of_lots, calls_of_branches]
+             calls_below_zero, calls_of_roots, calls_of_stars, calls_of_lots, calls_of_branches,
+             calls_of_sums, calls_of_stills, calls_of_lists, calls_of_points]
 
 
 def is_plain(value):
@@ -199,6 +239,11 @@ class Answers(unittest.TestCase):
                 self.assertTrue(same(outcome(act, kept), first), (act, arguments))
                 count += 1
         self.assertGreater(count, 1000)
+
+    def test_all_functions_are_called(self):
+        called = {f"{act.__module__}.{act.__name__}" for calls in ALL_CALLS for act, _ in calls()}
+        listed = {f"blowntrees.{name}.{told.split('(')[0]}" for name, all_told in INTERFACE.items() for told in all_told}
+        self.assertEqual(called, listed)
 
 
 if __name__ == "__main__":

@@ -33,6 +33,11 @@ INTERFACE = {
     "branches": ["is_smooth(tree)", "branch_row(tree, place)", "values(tree, place, most)", "gaps(tree, place)",
                  "turn_point(tree, place)", "value_row(tree, place, count)", "meeting(tree, u, v)"],
     "splits": ["cut_at(tree, tie)", "tied(one, i, other, j)", "side_numbers(tree, place)"],
+    "sums": ["fraction_sum(number)", "chain_levels(number)"],
+    "stills": ["is_still(tree, x)", "still_cycles(tree, most)", "loss(tree, x)", "pulled_up(tree, move, x)",
+               "shares(tree, x)", "point_row(tree, x)"],
+    "lists": ["shapes(n)", "trees_between(n, low, high)", "rational_trees(n, low)", "unimodular_trees(n, low, high)"],
+    "points": ["points_of(tree, place)", "tree_of_points(points)"],
 }
 
 
