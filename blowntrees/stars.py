@@ -70,8 +70,8 @@ def sphere_star(numbers):
     """Return the star with the sum -1 / (the product of some numbers apart)."""
     _check_apart(numbers)
     whole = multiplied(numbers)
-    # The sum times the product is -1: so it is modulo each number, where the
-    # parts of the others are 0, and that leaves one b for each.
+    # The sum times the product is to be -1. Modulo a, the arms of the other
+    # numbers add 0 to that, so b times the product of the others is -1.
     arms = [(a, -inverse_modulo(whole // a, a) % a) for a in numbers]
     middle = (-1 - sum([b * (whole // a) for a, b in arms])) // whole
     return (middle, tuple(sorted(arms)))

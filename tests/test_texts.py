@@ -139,7 +139,7 @@ class ReadTree(unittest.TestCase):
         chance = random.Random(10)
         signs = "0123456789-() +a\n\u0661"
         right = wrong = 0
-        for text in {written(tree) for tree in FEW + SMALL[::9] + some_trees(11, 12, (16,), (-60, 7))}:
+        for text in sorted({written(tree) for tree in FEW + SMALL[::9] + some_trees(11, 12, (16,), (-60, 7))}):
             for _ in range(40):
                 at = chance.randrange(len(text) + 1)
                 new = chance.choice([text[:at] + chance.choice(signs) + text[at:], text[:at] + text[at + 1:],
